@@ -1,0 +1,1 @@
+"""Shadeseats: folk who move as the sun goes."""

@@ -1,0 +1,106 @@
+"""Checks of what is handed in: each raises for the first thing that can't be."""
+
+from shadeseats.errors import BadCount, BadFloor, BadFolk, BadSun
+
+LONGEST_SIDE = 5
+MOST_POSTS = 4
+HIGHEST_POST = 4
+MOST_AWNINGS = 8
+SIGNS = "neswo"
+MOST_SIGNS = 6
+RULES = ("near", "first", "stay")
+MOST_FOLK = 4
+
+
+def is_whole(thing, low, high):
+    """Whether thing is a whole number from low to high."""
+    # Python counts True and False as whole numbers, the document does not.
+    return isinstance(thing, int) and not isinstance(thing, bool) and low <= thing <= high
+
+
+def is_tuple_of(thing, many):
+    return isinstance(thing, tuple) and len(thing) == many
+
+
+def is_cell(thing, floor):
+    """Whether thing is a cell of a floor whose rows and columns are checked."""
+    return (
+        is_tuple_of(thing, 2)
+        and is_whole(thing[0], 0, floor[0] - 1)
+        and is_whole(thing[1], 0, floor[1] - 1)
+    )
+
+
+def is_post(thing, floor):
+    return is_tuple_of(thing, 3) and is_cell(thing[:2], floor) and is_whole(thing[2], 1, HIGHEST_POST)
+
+
+def is_one(thing, floor):
+    """Whether thing is (cell, rule), as each of the folk is."""
+    return is_tuple_of(thing, 2) and is_cell(thing[0], floor) and thing[1] in RULES
+
+
+def check_floor(floor):
+    if not is_tuple_of(floor, 4):
+        raise BadFloor(0, 0)
+    if not is_whole(floor[0], 1, LONGEST_SIDE):
+        raise BadFloor(0, 0)
+    if not is_whole(floor[1], 1, LONGEST_SIDE):
+        raise BadFloor(1, 0)
+    check_posts(floor)
+    check_awnings(floor)
+
+
+def check_posts(floor):
+    posts = floor[2]
+    if not isinstance(posts, tuple):
+        raise BadFloor(2, 0)
+    taken = []
+    for number, post in enumerate(posts):
+        if number == MOST_POSTS or not is_post(post, floor) or post[:2] in taken:
+            raise BadFloor(2, number)
+        taken.append(post[:2])
+
+
+def check_awnings(floor):
+    awnings = floor[3]
+    if not isinstance(awnings, tuple):
+        raise BadFloor(3, 0)
+    taken = []
+    for number, cell in enumerate(awnings):
+        if number == MOST_AWNINGS or not is_cell(cell, floor) or cell in taken:
+            raise BadFloor(3, number)
+        taken.append(cell)
+
+
+def check_sun(sun):
+    if not isinstance(sun, str) or len(sun) == 0:
+        raise BadSun(0)
+    for number, sign in enumerate(sun):
+        if number == MOST_SIGNS or sign not in SIGNS:
+            raise BadSun(number)
+
+
+def check_folk(folk, floor):
+    """Check folk by a floor that is checked itself."""
+    if not isinstance(folk, tuple):
+        raise BadFolk(0)
+    # Nobody sits where a post stands, so a post takes its cell as one of the folk does.
+    taken = [post[:2] for post in floor[2]]
+    for number, one in enumerate(folk):
+        if number == MOST_FOLK or not is_one(one, floor) or one[0] in taken:
+            raise BadFolk(number)
+        taken.append(one[0])
+
+
+def check_scene(floor, sun, folk):
+    """Check the three in the order in which they are handed in."""
+    check_floor(floor)
+    check_sun(sun)
+    check_folk(folk, floor)
+
+
+def check_beats(many):
+    """Check a beat, or a count of beats."""
+    if not is_whole(many, 0, 10 ** 18):
+        raise BadCount("beats are a whole number from 0 to 10 ** 18")
