@@ -1,6 +1,6 @@
 """Checks of what is handed in: each raises for the first thing that can't be."""
 
-from shadeseats.errors import BadCount, BadFloor, BadFolk, BadSun
+from shadeseats.errors import BadCount, BadFloor, BadFolk, BadPaper, BadRule, BadSun, BadTold
 
 LONGEST_SIDE = 5
 MOST_POSTS = 4
@@ -10,6 +10,7 @@ SIGNS = "neswo"
 MOST_SIGNS = 6
 RULES = ("near", "first", "stay")
 MOST_FOLK = 4
+MOST_MORE_AWNINGS = 3
 
 
 def is_whole(thing, low, high):
@@ -38,6 +39,21 @@ def is_post(thing, floor):
 def is_one(thing, floor):
     """Whether thing is (cell, rule), as each of the folk is."""
     return is_tuple_of(thing, 2) and is_cell(thing[0], floor) and thing[1] in RULES
+
+
+def are_seats(thing, floor, many):
+    """Whether thing is a tuple of a cell of the floor for each of so many folk."""
+    # By their form alone: what is told may hold a cell twice, or one where a post stands.
+    return is_tuple_of(thing, many) and all([is_cell(cell, floor) for cell in thing])
+
+
+def is_pair(thing, floor, sun, folk):
+    """Whether thing is (beat, seats) as a paper has it."""
+    return (
+        is_tuple_of(thing, 2)
+        and is_whole(thing[0], 0, len(sun) - 1)
+        and are_seats(thing[1], floor, len(folk))
+    )
 
 
 def check_floor(floor):
@@ -104,3 +120,32 @@ def check_beats(many):
     """Check a beat, or a count of beats."""
     if not is_whole(many, 0, 10 ** 18):
         raise BadCount("beats are a whole number from 0 to 10 ** 18")
+
+
+def check_most(most):
+    """Check how many awnings may be hung besides."""
+    if not is_whole(most, 0, MOST_MORE_AWNINGS):
+        raise BadCount("awnings to hang besides are a whole number from 0 to 3")
+
+
+def check_rule(rule):
+    if rule not in RULES:
+        raise BadRule("a rule is near, first or stay")
+
+
+def check_told(told, floor, folk):
+    """Check where folk sat behind each beat, by a floor and folk that are checked themselves."""
+    if not isinstance(told, tuple):
+        raise BadTold(0)
+    for number, seats in enumerate(told):
+        if number == MOST_SIGNS or not are_seats(seats, floor, len(folk)):
+            raise BadTold(number)
+
+
+def check_paper(told, floor, sun, folk):
+    """Check the pairs of a paper, by a floor, a sun and folk that are checked themselves."""
+    if not isinstance(told, list):
+        raise BadPaper(0)
+    for number, pair in enumerate(told):
+        if not is_pair(pair, floor, sun, folk):
+            raise BadPaper(number)

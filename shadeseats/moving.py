@@ -4,15 +4,29 @@ from shadeseats.checks import check_beats, check_scene
 from shadeseats.floors import shaded
 
 
-def shelter(floor, sign):
-    """The cells in the shade by one sign where no post stands, rising."""
-    posts = [(row, column) for row, column, high in floor[2]]
-    return [cell for cell in shaded(floor, sign) if cell not in posts]
+def without_posts(cells, floor):
+    """Those of some cells where no post stands, in their order."""
+    posts = [post[:2] for post in floor[2]]
+    return [cell for cell in cells if cell not in posts]
 
 
-def shelters(floor, sun):
-    """The shelter of each place of the sun's text."""
-    return [shelter(floor, sign) for sign in sun]
+def beat_of(floor, sign):
+    """A beat by a sign: its cells in the shade, and those of them to which folk may move, both rising."""
+    cells = shaded(floor, sign)
+    return cells, without_posts(cells, floor)
+
+
+def beats_of(floor, sun):
+    """The beat of each place of the sun's text."""
+    return [beat_of(floor, sign) for sign in sun]
+
+
+def seats_of(folk):
+    return tuple([cell for cell, rule in folk])
+
+
+def rules_of(folk):
+    return [rule for cell, rule in folk]
 
 
 def steps_between(cell, other):
@@ -29,41 +43,54 @@ def next_seat(cell, rule, free):
     return min(free, key=lambda other: steps_between(cell, other))
 
 
-def moved(seats, rules, cells):
-    """Where folk sit behind a beat, if cells are its shelter and they sat at seats ahead of it."""
+def moved(seats, rules, beat):
+    """Where folk sit behind a beat if they sat at seats ahead of it, wherever that is."""
+    cells, goals = beat
     now = list(seats)
     for number, rule in enumerate(rules):
+        # A paper may tell of one who sits where a post stands: in the shade there, though no goal.
         if now[number] not in cells:
-            free = [cell for cell in cells if cell not in now]
+            free = [cell for cell in goals if cell not in now]
             now[number] = next_seat(now[number], rule, free)
     return tuple(now)
 
 
+def in_sun(seats, beat):
+    """The numbers of those whose seats are in the sun by the shade of a beat, rising, as a new list."""
+    cells, _ = beat
+    return [number for number, cell in enumerate(seats) if cell not in cells]
+
+
 def walked(floor, sun, folk):
     """What course tells, of a floor, a sun and folk that are checked."""
-    cells = shelters(floor, sun)
-    rules = [rule for cell, rule in folk]
-    now = tuple([cell for cell, rule in folk])
+    beats = beats_of(floor, sun)
+    rules = rules_of(folk)
+    now = seats_of(folk)
     place = 0
-    beats = {}
+    first_beats = {}
     seats = []
-    while (place, now) not in beats:
-        beats[(place, now)] = len(seats)
+    while (place, now) not in first_beats:
+        first_beats[(place, now)] = len(seats)
         seats.append(now)
-        now = moved(now, rules, cells[place])
+        now = moved(now, rules, beats[place])
         place = (place + 1) % len(sun)
-    start = beats[(place, now)]
+    start = first_beats[(place, now)]
     return start, len(seats) - start, seats
+
+
+def seats_behind(floor, sun, folk, many):
+    """What seated tells, of things that are checked."""
+    start, turn, seats = walked(floor, sun, folk)
+    if many < start:
+        return seats[many]
+    return seats[start + (many - start) % turn]
 
 
 def seated(floor, sun, folk, many):
     """The cells where folk sit behind so many beats."""
     check_scene(floor, sun, folk)
     check_beats(many)
-    start, turn, seats = walked(floor, sun, folk)
-    if many < start:
-        return seats[many]
-    return seats[start + (many - start) % turn]
+    return seats_behind(floor, sun, folk, many)
 
 
 def course(floor, sun, folk):
@@ -84,12 +111,13 @@ def restless(floor, sun, folk):
 def scorched(floor, sun, folk):
     """For each one how many of the first start beats, and of the next turn ones, leave it in the sun."""
     start, _, seats = course(floor, sun, folk)
-    cells = shelters(floor, sun)
+    beats = beats_of(floor, sun)
     # All comes again behind the last beat told, so folk sit then as they did ahead of beat start.
     behind = seats[1:] + [seats[start]]
+    hot = [in_sun(now, beats[beat % len(sun)]) for beat, now in enumerate(behind)]
     told = []
     for number in range(len(folk)):
-        hot = [beat for beat, now in enumerate(behind) if now[number] not in cells[beat % len(sun)]]
-        early = len([beat for beat in hot if beat < start])
-        told.append((early, len(hot) - early))
+        early = len([one for one in hot[:start] if number in one])
+        late = len([one for one in hot[start:] if number in one])
+        told.append((early, late))
     return told

@@ -1,14 +1,26 @@
-"""Promises 1 to 6: what is refused, and that what is handed in first is refused first."""
+"""Promises 1 to 12: what is refused, and that what is handed in first is refused first."""
 
 import copy
 import unittest
 
-from shadeseats.errors import BadCount, BadFloor, BadFolk, BadSun
+from shadeseats.errors import BadCount, BadFloor, BadFolk, BadPaper, BadRule, BadSun, BadTold
 from shadeseats.floors import parted, shade
+from shadeseats.garden import Garden
 from shadeseats.moving import course, restless, scorched, seated
+from shadeseats.notes import written
+from shadeseats.telling import awnings, paper, parting, shows, suns
 
 FLOOR = (2, 3, ((0, 0, 1),), ((1, 1),))
 FOLK = (((1, 0), "near"), ((0, 2), "stay"))
+# One who sits in the sun behind no beat by "es".
+COOL = FOLK[:1]
+SEATS = ((1, 0), (0, 2))
+
+
+def opened(floor, sun):
+    return Garden(floor, sun).stands()
+
+
 # Each call with things that can be, in the order in which they are handed in.
 CALLS = (
     (shade, (FLOOR, "es", 0), ("floor", "sun", "count")),
@@ -17,6 +29,13 @@ CALLS = (
     (course, (FLOOR, "es", FOLK), ("floor", "sun", "folk")),
     (restless, (FLOOR, "es", FOLK), ("floor", "sun", "folk")),
     (scorched, (FLOOR, "es", FOLK), ("floor", "sun", "folk")),
+    (suns, (FLOOR, FOLK, (SEATS,)), ("floor", "folk", "told")),
+    (parting, (FLOOR, "es", "near", "first"), ("floor", "sun", "rule", "rule")),
+    (awnings, (FLOOR, "es", FOLK, 1), ("floor", "sun", "folk", "most")),
+    (paper, (FLOOR, "es", COOL), ("floor", "sun", "folk")),
+    (shows, (FLOOR, "es", FOLK, [(0, SEATS)]), ("floor", "sun", "folk", "paper")),
+    (opened, (FLOOR, "es"), ("floor", "sun")),
+    (written, (FLOOR, "es", FOLK), ("floor", "sun", "folk")),
 )
 
 # Things of the kinds that may be handed in wrongly.
@@ -121,11 +140,51 @@ WRONG_FOLK = [
 
 WRONG_COUNTS = NO_NUMBERS + (-1, -(10 ** 18), 10 ** 18 + 1, 10 ** 19)
 
+WRONG_MOSTS = NO_NUMBERS + (-1, 4, 5, 10 ** 18)
+WRONG_RULES = NO_TEXTS + ("", "Near", "far", "near ", " stay", "nea", "ear", "nearfirst")
+
+# No seats of two folk on FLOOR.
+WRONG_SEATS = [
+    *NO_TUPLES,
+    (), SEATS[:1], SEATS + SEATS[:1], SEATS[0], list(SEATS),
+    *[(SEATS[0], thing) for thing in NO_TUPLES + ((), (0,), (0, 0, 0), [0, 0], (2, 0), (0, 3), (-1, 0), (0, -1))],
+    *[((thing, 1), SEATS[1]) for thing in NO_NUMBERS],
+    *[((1, thing), SEATS[1]) for thing in NO_NUMBERS],
+]
+WRONG_TOLD = [
+    *[(thing, 0) for thing in NO_TUPLES],
+    ([SEATS], 0),
+    *[((seats,), 0) for seats in WRONG_SEATS],
+    *[((SEATS, SEATS, seats, SEATS), 2) for seats in WRONG_SEATS],
+    (SEATS, 0),
+    ((SEATS,) * 7, 6),
+    ((SEATS,) * 6 + (None,), 6),
+    ((SEATS,) * 100, 6),
+    ((SEATS, None, SEATS, ()), 1),
+    ((SEATS,) * 5 + (None, SEATS, SEATS), 5),
+]
+# As a sun of two signs has beats 0 and 1.
+WRONG_PAPERS = [
+    *[(thing, 0) for thing in NO_TUPLES if not isinstance(thing, list)],
+    (((0, SEATS),), 0),
+    (SEATS, 0),
+    *[([thing], 0) for thing in NO_TUPLES + ((), (0,), (0, SEATS, SEATS), [0, SEATS], SEATS)],
+    *[([(0, seats)], 0) for seats in WRONG_SEATS],
+    *[([(0, SEATS), (1, SEATS), (1, seats), (0, SEATS)], 2) for seats in WRONG_SEATS],
+    *[([(0, SEATS), (beat, SEATS)], 1) for beat in NO_NUMBERS + (-1, 2, 3, 10 ** 18)],
+    ([(0, SEATS), None, (2, SEATS)], 1),
+    ([(2, None)], 0),
+]
+
 WRONG = {
     "floor": (BadFloor, (6, 3, (), ())),
     "sun": (BadSun, "x"),
     "folk": (BadFolk, None),
     "count": (BadCount, True),
+    "told": (BadTold, None),
+    "rule": (BadRule, "far"),
+    "most": (BadCount, 4),
+    "paper": (BadPaper, ()),
 }
 
 
@@ -174,6 +233,28 @@ class Refusals(unittest.TestCase):
         for call, things, at in calls_with("count"):
             for count in WRONG_COUNTS:
                 self.caught(BadCount, call, put(things, at, count))
+
+    def test_bad_mosts(self):
+        for call, things, at in calls_with("most"):
+            for most in WRONG_MOSTS:
+                self.caught(BadCount, call, put(things, at, most))
+
+    def test_bad_rules(self):
+        for call, things, at in calls_with("rule"):
+            for rule in WRONG_RULES:
+                self.caught(BadRule, call, put(things, at, rule))
+
+    def test_bad_told(self):
+        for call, things, at in calls_with("told"):
+            for told, number in WRONG_TOLD:
+                held = self.caught(BadTold, call, put(things, at, told))
+                self.assertEqual(held.number, number, told)
+
+    def test_bad_papers(self):
+        for call, things, at in calls_with("paper"):
+            for told, number in WRONG_PAPERS:
+                held = self.caught(BadPaper, call, put(things, at, told))
+                self.assertEqual(held.number, number, told)
 
     def test_the_first_wrong_thing_is_refused(self):
         for call, things, kinds in CALLS:
